@@ -1,0 +1,1 @@
+"""Hintedpoints: a machine for the small programs of letter shapes."""
