@@ -6,6 +6,8 @@ from hintedpoints.errors import NoBase, NoNumber
 
 FIGURES = "0123456789"
 MOST_FIGURES = 60
+# The least whole number that has more figures than that.
+LEAST_LONG = 10 ** 60
 MOST_THINGS = 400
 LONGEST_NAME = 8
 
@@ -61,6 +63,12 @@ def pair_of(number):
     if isinstance(number, tuple):
         return number
     return (number, 1)
+
+
+def is_short(number):
+    """Tells whether the top and the base of a number have at most sixty figures."""
+    top, base = pair_of(number)
+    return abs(top) < LEAST_LONG and base < LEAST_LONG
 
 
 def lowest(top, base):

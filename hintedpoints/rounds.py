@@ -8,7 +8,7 @@ CELL = 64
 PERIODS = {"grid": (64, 0), "half": (64, 32), "double": (32, 0)}
 
 
-def _signed(number, distance):
+def signed(number, distance):
     """Tells a number from 0 on with the sign of a distance, nought counting as above nought."""
     if sign_of(distance) < 0:
         return minus(0, number)
@@ -17,13 +17,13 @@ def _signed(number, distance):
 
 def _down(distance):
     """Tells a distance rounded towards nought, to whole cells."""
-    return _signed(floor_of(bare_of(distance), step=CELL), distance)
+    return signed(floor_of(bare_of(distance), step=CELL), distance)
 
 
 def _up(distance):
     """Tells a distance rounded away from nought, to whole cells."""
     below = floor_of(minus(0, bare_of(distance)), step=CELL)
-    return _signed(minus(0, below), distance)
+    return signed(minus(0, below), distance)
 
 
 def _off(distance):
@@ -39,11 +39,28 @@ def is_kind(thing):
     return isinstance(thing, str) and (thing in PERIODS or thing in OTHERS)
 
 
+def is_period(thing):
+    """Tells whether a thing is a number above nought."""
+    return is_number(thing) and sign_of(thing) > 0
+
+
+def is_phase(thing, period):
+    """Tells whether a thing is a number from 0 on and below a period."""
+    return is_from_nought(thing) and less(thing, period)
+
+
+def is_rounding(thing):
+    """Tells whether a thing is a kind of rounding, or a tuple of a period and a phase."""
+    if not isinstance(thing, tuple):
+        return is_kind(thing)
+    return len(thing) == 2 and is_period(thing[0]) and is_phase(thing[1], thing[0])
+
+
 def by_period(period, phase=0):
     """Tells the def that rounds a distance to a phase and periods beyond it."""
-    if not is_number(period) or sign_of(period) < 1:
+    if not is_period(period):
         raise NoRound(period)
-    if not is_from_nought(phase) or not less(phase, period):
+    if not is_phase(phase, period):
         raise NoRound(phase)
     # From half a period ahead of a place on it is the nearest one: so of two
     # equally near ones the further one from nought is told.
@@ -53,7 +70,7 @@ def by_period(period, phase=0):
         beyond = floor_of(minus(bare_of(distance), begin), step=period)
         if sign_of(beyond) < 0:
             beyond = 0
-        return _signed(plus(phase, beyond), distance)
+        return signed(plus(phase, beyond), distance)
 
     return nearest
 
@@ -68,13 +85,25 @@ def rounder(kind):
     return OTHERS[kind]
 
 
+def rounding(kind):
+    """Tells the def that rounds a distance by a kind, or by a tuple of a period and a phase."""
+    if isinstance(kind, tuple):
+        period, phase = kind
+        return by_period(period, phase)
+    return rounder(kind)
+
+
+def kept_from(found, least, distance):
+    """Tells what was found, or the least one with the sign of a distance where that is less."""
+    if less(bare_of(found), least):
+        return signed(least, distance)
+    return found
+
+
 def rounded(distance, *, kind="grid", least=0):
     """Tells a distance rounded by a kind and kept from a least one."""
     need_number(distance)
     act = rounder(kind)
     if not is_from_nought(least):
         raise NoNumber(least)
-    found = act(distance)
-    if less(bare_of(found), least):
-        return _signed(least, distance)
-    return found
+    return kept_from(act(distance), least, distance)

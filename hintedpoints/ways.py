@@ -37,13 +37,16 @@ def need_way(thing):
         raise NoWay(thing)
 
 
+def has_way(a, b):
+    """Tells whether two things are the whole numbers of a way."""
+    return is_int(a) and is_int(b) and is_way((a, b, isqrt(a * a + b * b)))
+
+
 def way_of(a, b):
     """Tells the way that has the two numbers."""
-    if is_int(a) and is_int(b):
-        found = (a, b, isqrt(a * a + b * b))
-        if is_way(found):
-            return found
-    raise NoWay((a, b))
+    if not has_way(a, b):
+        raise NoWay((a, b))
+    return (a, b, isqrt(a * a + b * b))
 
 
 def measure(place, way):

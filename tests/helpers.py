@@ -3,6 +3,11 @@
 from fractions import Fraction
 
 from hintedpoints import errors
+from hintedpoints.fonts import Font, Letter, Made
+from hintedpoints.machine import Machine
+from hintedpoints.outlines import Outline
+from hintedpoints.programs import Program
+from hintedpoints.zones import Setting, Zone
 
 # Sixty figures, the most that a whole number that is handed in may have.
 MOST = 10 ** 60 - 1
@@ -23,10 +28,18 @@ def refusals():
             errors.Fault(1, "lack"), errors.NoSuch("a"), errors.NoBase(0)]
 
 
+def objects():
+    """Objects of this package's classes, refusals left out."""
+    outline = Outline([[(0, 0, True), (1, 0, True), (0, 1, True)]])
+    return [outline, Program([]), Program([("drop",)]), Letter(outline), Made([("a", 0, 0)]), Font(64), Zone((), ()),
+            Setting(), Machine({}, size=1, worths=(), zone=Zone((), ()))]
+
+
 def no_things():
-    """Things that are neither numbers, places, ways, kinds of rounding, names nor texts of numbers."""
+    """Things that are neither numbers, places, ways, kinds of rounding, names, texts of numbers nor lists of one
+    of these."""
     return [True, False, None, "", " ", "what is this?", "x" * 40000, [], {}, (), [None], {"a": 1}, {1: 2},
-            (None,), ("a", "b"), (1, 2, 3, 4), (True, False), deep_thing()] + refusals()
+            (None,), ("a", "b"), (1, 2, 3, 4), (True, False), deep_thing()] + refusals() + objects()
 
 
 def no_numbers():
@@ -73,6 +86,13 @@ class Looks:
             act(*places, **names)
         self.assertIs(type(caught.exception), kind)
         self.assertIs(caught.exception.found, thing)
+
+    def refused_at(self, kind, fields, act, /, *places, **names):
+        """Is this refused with this very class, and are its fields equal to these, by their names?"""
+        with self.assertRaises(kind) as caught:
+            act(*places, **names)
+        self.assertIs(type(caught.exception), kind)
+        self.assertEqual(vars(caught.exception), fields)
 
     def refused_both(self, one, other, act, /, *places, **names):
         """Is this refused with NoWay of the tuple of these two very things?"""

@@ -27,6 +27,13 @@ WORDS = set("""type typing typing_extensions enum Enum IntEnum StrEnum Flag IntF
     with_traceback add_note""".split())
 BARRED = (ast.Global, ast.AsyncFunctionDef, ast.AsyncFor, ast.AsyncWith, ast.Await, ast.Import, ast.Div)
 AT_TOP = (ast.ImportFrom, ast.FunctionDef, ast.ClassDef, ast.Assign)
+BUILT_IN_METHODS = set("""append clear copy count endswith extend find get index insert isalnum isalpha isdigit islower
+    isspace isupper items join keys ljust lower lstrip partition pop remove replace reverse rfind rjust rpartition
+    rsplit rstrip setdefault split splitlines startswith strip update upper values zfill bit_length
+    removeprefix removesuffix""".split())
+NO_ATTRIBUTES = set("""items keys values pop update append clear extend insert remove reverse setdefault sort args
+    encode decode hex fromhex format format_map mro""".split())
+TEXT_CALLS = {"__len__": ("len",), "__str__": ("str", "repr", "join"), "__repr__": ("str", "repr", "join")}
 CAUGHT = {"Exception", "BaseException", "TypeError", "ArithmeticError", "OverflowError", "RuntimeError",
           "NotImplementedError", "AttributeError"}
 SIGNS = re.compile("[ -~]*")
@@ -135,6 +142,84 @@ def rules_of_compare(node):
     return told
 
 
+def names_of_file(tree):
+    """The names of a file's imports and classes."""
+    told = {each.name for each in tree.body if isinstance(each, ast.ClassDef)}
+    for node in tree.body:
+        if isinstance(node, ast.ImportFrom):
+            told |= {each.name for each in node.names}
+    return told
+
+
+def shadows_of(tree, name):
+    """L15: parameters and variables that are called as an import or a class of the file; imports that nothing reads."""
+    told = []
+    taken = names_of_file(tree)
+    read = {node.id for node in ast.walk(tree) if isinstance(node, ast.Name) and isinstance(node.ctx, ast.Load)}
+    imported = {each.name for node in tree.body if isinstance(node, ast.ImportFrom) for each in node.names}
+    told += [f"L15 {name}:0 {each} is not read" for each in sorted(imported - read)]
+    for node in ast.walk(tree):
+        here = node.arg if isinstance(node, ast.arg) else None
+        if isinstance(node, ast.Name) and isinstance(node.ctx, ast.Store):
+            here = node.id
+        if here in taken:
+            told.append(f"L15 {name}:{node.lineno}")
+    return told
+
+
+def classes_of(tree, name):
+    """L18, L26, L28: what a class calls its attributes and methods, and what its special methods return."""
+    told = []
+    for each in ast.walk(tree):
+        if not isinstance(each, ast.ClassDef):
+            continue
+        methods = [node for node in each.body if isinstance(node, ast.FunctionDef)]
+        names = [node.name for node in methods]
+        kept = {node.attr for node in ast.walk(each) if isinstance(node, ast.Attribute)
+                and isinstance(node.ctx, ast.Store)}
+        if len(set(names)) < len(names) or kept & set(names):
+            told.append(f"L18 {name}:{each.lineno}")
+        if kept & NO_ATTRIBUTES:
+            told.append(f"L26 {name}:{each.lineno}")
+        for method in methods:
+            told += [f"L28 {name}:{node.lineno}" for node in ast.walk(method)
+                     if isinstance(node, ast.Return) and not may_return(method.name, node.value)]
+    return told
+
+
+def may_return(method, value):
+    """May a method of this name return this?"""
+    if method == "__init__":
+        return False
+    if method not in TEXT_CALLS or isinstance(value, (ast.Constant, ast.JoinedStr)):
+        return True
+    if not isinstance(value, ast.Call):
+        return False
+    called = value.func.attr if isinstance(value.func, ast.Attribute) else value.func.id
+    return called in TEXT_CALLS[method]
+
+
+def calls_of(tree, name, own):
+    """L25: methods of builtin values that are called, `own` being the names of the package's methods."""
+    told = []
+    for node in ast.walk(tree):
+        if isinstance(node, ast.Call) and isinstance(node.func, ast.Attribute):
+            called = node.func.attr
+            if called not in BUILT_IN_METHODS and called not in own and not called.startswith("__"):
+                told.append(f"L25 {name}:{node.lineno}")
+    return told
+
+
+def methods_of(texts):
+    """The names of all methods of all classes in some files' texts."""
+    told = set()
+    for text in texts:
+        for each in ast.walk(ast.parse(text)):
+            if isinstance(each, ast.ClassDef):
+                told |= {node.name for node in each.body if isinstance(node, ast.FunctionDef)}
+    return told
+
+
 def words_of(tree, name):
     """L17: names that are not used at all."""
     told = []
@@ -145,10 +230,11 @@ def words_of(tree, name):
     return told
 
 
-def broken(text, name):
-    """All rules that a file's text breaks, as far as they are known here."""
+def broken(text, name, own=()):
+    """All rules that a file's text breaks, as far as they are known here; own are the package's methods."""
     tree = ast.parse(text)
-    told = rows_of(text, name) + top_of(tree, name) + words_of(tree, name)
+    told = rows_of(text, name) + top_of(tree, name) + words_of(tree, name) + shadows_of(tree, name)
+    told += classes_of(tree, name) + calls_of(tree, name, own)
     for node in ast.walk(tree):
         told += [f"{rule} {name}:{getattr(node, 'lineno', 0)}" for rule in rules_of(node)]
     return told

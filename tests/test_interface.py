@@ -19,6 +19,54 @@ DEFS = {
     "rounds": {
         "rounder": "(kind)", "by_period": "(period, phase=0)", "rounded": "(distance, *, kind='grid', least=0)",
     },
+    "outlines": {"joined": "(outlines)", "polygons": "(places, ends, truths, *, cuts=2)"},
+    "turns": {"turns": "(parts)", "first_crossing": "(parts)", "judged": "(before, after)"},
+    "words": {"is_word": "(thing)", "effect": "(word)"},
+    "programs": {"read_program": "(text, *, names=())"},
+    "fonts": {"scaled": "(number, size, em)"},
+    "moves": {
+        "settled": "(zone, setting, point)", "put_at": "(zone, setting, point, worth)",
+        "far_from": "(zone, setting, point)", "far_by": "(zone, setting, point, worth)",
+        "lined": "(zone, setting, point)", "amid": "(zone, setting, point)", "carried": "(number, ahead, behind)",
+        "shifted": "(zone, setting, point, distance)", "crossing": "(zone, setting, point, *, a, b, c, d)",
+        "rested": "(zone, line)",
+    },
+}
+# Of each class how it is made, and its methods, each of which stands in the class itself.
+CLASSES = {
+    "outlines": {"Outline": {
+        "__init__": "(self, rounds)", "rounds": "(self)", "points": "(self)", "places": "(self)", "truths": "(self)",
+        "ends": "(self)", "moved": "(self, *, east=0, north=0)", "__eq__": "(self, other)", "__len__": "(self)",
+        "__str__": "(self)", "__repr__": "(self)"}},
+    "programs": {"Program": {
+        "__init__": "(self, words, *, names=())", "words": "(self)", "calls": "(self)", "deep": "(self)",
+        "text": "(self)", "__eq__": "(self, other)", "__len__": "(self)", "__str__": "(self)", "__repr__": "(self)"}},
+    "fonts": {
+        "Letter": {
+            "__init__": "(self, outline, *, program=None)", "outline": "(self)", "program": "(self)", "parts": "(self)",
+            "__eq__": "(self, other)"},
+        "Made": {
+            "__init__": "(self, parts, *, program=None)", "outline": "(self)", "program": "(self)", "parts": "(self)",
+            "__eq__": "(self, other)"},
+        "Font": {
+            "__init__": "(self, em, *, worths=(), definitions=(), first=None, letters=())", "em": "(self)",
+            "worths": "(self)", "names": "(self)", "definitions": "(self)", "first": "(self)", "__len__": "(self)",
+            "__eq__": "(self, other)", "letter": "(self, name)", "leaves": "(self, name)", "hangs_on": "(self, name)",
+            "replaced": "(self, name, letter)"}},
+    "zones": {
+        "Zone": {
+            "__init__": "(self, places, ends, *, made_up=None)", "__eq__": "(self, other)", "__len__": "(self)",
+            "first": "(self, point)", "now": "(self, point)", "touched": "(self, point)", "places": "(self)",
+            "ends": "(self)", "made_up": "(self)"},
+        "Setting": {
+            "__init__": "(self, *, move=(1, 0, 1), along=(1, 0, 1), kind='grid', least=64, cutin=68, lean=0, "
+                        "holds=(0, 0))",
+            "told": "(self)", "__eq__": "(self, other)",
+            "changed": "(self, *, move=None, along=None, kind=None, least=None, cutin=None, lean=None, holds=None)"}},
+    "machine": {"Machine": {
+        "__init__": "(self, definitions, *, size, worths, zone, store=None, stack=24, budget=400)",
+        "run": "(self, program)", "store": "(self)", "worths": "(self)", "stack": "(self)", "zone": "(self)",
+        "trail": "(self)", "log": "(self)", "at_rest": "(self)"}},
 }
 
 
@@ -32,6 +80,17 @@ class Interface(unittest.TestCase):
                 self.assertEqual(told.__module__, module.__name__, each)
                 self.assertEqual(told.__name__, each)
                 self.assertEqual(str(inspect.signature(told)), arguments, each)
+
+    def test_classes_stand_in_their_files_with_their_methods(self):
+        for name, classes in CLASSES.items():
+            module = importlib.import_module("hintedpoints." + name)
+            for each, methods in classes.items():
+                told = getattr(module, each)
+                self.assertTrue(inspect.isclass(told), each)
+                self.assertEqual((told.__module__, told.__name__), (module.__name__, each))
+                for method, arguments in methods.items():
+                    self.assertIn(method, vars(told), each)
+                    self.assertEqual(str(inspect.signature(vars(told)[method])), arguments, (each, method))
 
     def test_refusals_stand_in_their_file(self):
         module = importlib.import_module("hintedpoints.errors")
