@@ -45,43 +45,40 @@ def _whole_place(place):
 
 
 def _line(one, other):
-    """Tells the three whole numbers by which places are told to be left of two places or not."""
-    x, y, base = _whole_place(one)
-    other_x, other_y, other_base = _whole_place(other)
+    """Tells the three whole numbers by which it is told on which side of two whole places others lie."""
+    x, y, base = one
+    other_x, other_y, other_base = other
     return (y * other_base - base * other_y, base * other_x - x * other_base, x * other_y - y * other_x)
 
 
 def _box(one, other):
-    """Tells whole numbers (west, east, south, north) that no place between two places lies a cell beyond."""
+    """Tells the whole numbers (west, east, south, north) at which, or just ahead of which, two places end."""
     xs = [floor_of(one[0]), floor_of(other[0])]
     ys = [floor_of(one[1]), floor_of(other[1])]
     return (min(xs), max(xs), min(ys), max(ys))
 
 
 class Edge:
-    """An edge of a polygon that goes from one place to another one."""
+    """An edge that goes from one place to another one; at and follower are its own and the next one's tuple."""
 
-    def __init__(self, at, begin, end):
+    def __init__(self, at, follower, begin, end):
         self.at = at
+        self.follower = follower
         self.begin = begin
         self.end = end
-        self.follower = None
+        # Places in whole numbers keep looks at four hundred edges quick.
         self.whole_begin = _whole_place(begin)
         self.whole_end = _whole_place(end)
-        self.line = _line(begin, end)
+        self.line = _line(self.whole_begin, self.whole_end)
         self.box = _box(begin, end)
 
 
 def _edges_of(number, polygon):
     """Tells the edges of a polygon, without those that are let out."""
-    found = []
-    for at, place in enumerate(polygon):
-        following = polygon[(at + 1) % len(polygon)]
-        if following != place:
-            found.append(Edge((number, at), place, following))
-    for at, edge in enumerate(found):
-        edge.follower = found[(at + 1) % len(found)].at
-    return found
+    ends = [*polygon[1:], polygon[0]]
+    kept = [at for at, place in enumerate(polygon) if place != ends[at]]
+    followers = kept[1:] + kept[:1]
+    return [Edge((number, at), (number, follower), polygon[at], ends[at]) for at, follower in zip(kept, followers)]
 
 
 def _side(line, whole):

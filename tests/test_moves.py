@@ -70,6 +70,8 @@ class Moves(unittest.TestCase, Looks):
         # What was touched stays so.
         told = settled(told[0], Setting(move=NORTH, along=NORTH), 0)
         self.assertEqual(told[0].touched(0), (True, True))
+        told = settled(settled(zone(), Setting(move=NORTH, along=NORTH), 0)[0], Setting(), 0)
+        self.assertEqual(told[0].touched(0), (True, True))
 
     def test_along_slanted_ways(self):
         setting = Setting(move=EAST, along=SLANT)
@@ -94,6 +96,12 @@ class Moves(unittest.TestCase, Looks):
         self.assertEqual(moved_now(put_at(zone(), setting, 1, (212, 3))), (70, 10))
         self.assertEqual(moved_now(put_at(zone(), Setting(cutin=0, kind="off"), 1, 70)), (70, 10))
         self.assertEqual(moved_now(put_at(zone(), Setting(cutin=0), worth=71, point=1)), (64, 10))
+
+    def test_put_at_of_the_first_point(self):
+        told = put_at(zone(), Setting(kind="off"), 0, 5)
+        self.assertEqual((told[0].first(0), told[0].now(0)), ((0, 0), (5, 0)))
+        told = put_at(zone(), Setting(kind="off"), 0, 500)
+        self.assertEqual((told[0].first(0), told[0].now(0)), ((0, 0), (0, 0)))
 
     def test_put_at_of_a_made_up_point(self):
         told = put_at(zone(), Setting(), -1, 1000)

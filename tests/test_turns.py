@@ -169,6 +169,15 @@ class Crossings(unittest.TestCase, Looks):
         self.assertEqual(first_crossing([LEFT, [(8, 0), (12, 0), (10, 5)]]), ((0, 0), (1, 0)))
         self.assertIsNone(first_crossing([LEFT, [(9, 0), (12, 0), (10, -5)]]))
 
+    def test_edges_in_one_line_that_are_apart(self):
+        for begin in range(-20, 20):
+            low, high, far, further = [number(Fraction(begin + step, 100)) for step in (0, 1, 7, 9)]
+            one = [(low, 0), (high, 0), (low, (1, 50))]
+            other = [(far, 0), (further, 0), (far, (1, 50))]
+            for parts in ([one, other], [other, one]):
+                self.assertIsNone(first_crossing(parts))
+                self.assertIsNone(first_crossing([[(y, x) for x, y in polygon] for polygon in parts]))
+
     def test_straight_on_is_no_fold(self):
         self.assertIsNone(first_crossing([[(0, 0), (4, 0), (8, 0), (8, 8), (4, 8), (0, 8)]]))
 
@@ -201,6 +210,10 @@ class Crossings(unittest.TestCase, Looks):
                      for _ in range(chance.randint(1, 3))]
             told = first_crossing(parts)
             self.assertEqual(told, wanted_crossing(parts), parts)
+            # Likewise within a part of one cell.
+            small = [[(number(Fraction(x, 1000)), number(Fraction(y - 7, 1000))) for x, y in polygon]
+                     for polygon in parts]
+            self.assertEqual(first_crossing(small), told, parts)
             none += told is None
             some += told is not None
         self.assertGreater(min(none, some), 100)
