@@ -1,10 +1,10 @@
 """Letters, of an outline or made of parts, and fonts."""
 
-from hintedpoints.errors import NoFont, NoLetter, NoName, NoNumber, NoOutline, NoParts, NoProgram, NoSize
+from hintedpoints.errors import NoFont, NoLetter, NoName, NoNumber, NoOutline, NoParts, NoSize
 from hintedpoints.errors import NoSuch, NoWorths, TooMany, Unready
 from hintedpoints.numbers import is_list, is_name, is_whole, need_number, over, times
 from hintedpoints.outlines import MOST_ROUNDS, Outline, is_near
-from hintedpoints.programs import Program, need_known
+from hintedpoints.programs import need_known, need_program
 from hintedpoints.rounds import CELL
 from hintedpoints.words import is_size
 
@@ -36,10 +36,10 @@ def scaled(number, size, em):
     return over(times(number, size * CELL), em)
 
 
-def _need_program(thing):
+def _need_program_or_none(thing):
     """Refuses what is neither a program nor None."""
-    if thing is not None and not isinstance(thing, Program):
-        raise NoProgram(thing)
+    if thing is not None:
+        need_program(thing)
 
 
 class Letter:
@@ -48,7 +48,7 @@ class Letter:
     def __init__(self, outline, *, program=None):
         if not isinstance(outline, Outline):
             raise NoOutline(outline)
-        _need_program(program)
+        _need_program_or_none(program)
         self._outline = outline
         self._program = program
 
@@ -87,7 +87,7 @@ class Made(Letter):
         for part in parts:
             if not _is_part(part):
                 raise NoParts(part)
-        _need_program(program)
+        _need_program_or_none(program)
         self._parts = list(parts)
         self._program = program
 
@@ -132,8 +132,7 @@ def _definitions_of(rows):
     for row in rows:
         _need_row(row, found)
         name, program = row
-        if not isinstance(program, Program):
-            raise NoProgram(program)
+        need_program(program)
         need_known(program.calls(), found)
         found[name] = program
     return found
@@ -141,7 +140,7 @@ def _definitions_of(rows):
 
 def _need_defined(program, definitions):
     """Refuses what is neither a program nor None, or calls what isn't defined."""
-    _need_program(program)
+    _need_program_or_none(program)
     if program is not None:
         need_known(program.calls(), definitions)
 

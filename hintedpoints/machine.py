@@ -3,7 +3,7 @@
 from hintedpoints.errors import NoLimit, NoNumber, NoProgram, NoWorths, NoZone
 from hintedpoints.fonts import MOST_DEFINITIONS, MOST_WORTHS, need_size
 from hintedpoints.numbers import is_list, is_name, is_number, is_whole
-from hintedpoints.programs import Program, need_known
+from hintedpoints.programs import Program, need_known, need_program
 from hintedpoints.runs import Run
 from hintedpoints.zones import Zone
 
@@ -69,8 +69,7 @@ class Machine:
 
     def run(self, program):
         """Does a program; tells how many words, and rounds of words, were counted."""
-        if not isinstance(program, Program):
-            raise NoProgram(program)
+        need_program(program)
         need_known(program.calls(), list(self._blocks))
         run = Run(self._blocks, size=self._size, worths=self._worths, zone=self._zone, store=self._store,
                   stack=self._most, budget=self._budget)

@@ -100,6 +100,12 @@ class Program:
         return "\n".join(rows_of(self._words))
 
 
+def need_program(thing):
+    """Refuses what is no program."""
+    if not isinstance(thing, Program):
+        raise NoProgram(thing)
+
+
 def read_program(text, *, names=()):
     """Tells the program that a text writes, by names that its calls may have."""
     if not isinstance(text, str):

@@ -73,7 +73,7 @@ class Edge:
         self.box = _box(begin, end)
 
 
-def _edges_of(number, polygon):
+def edges_of(number, polygon):
     """Tells the edges of a polygon, without those that are let out."""
     ends = [*polygon[1:], polygon[0]]
     kept = [at for at, place in enumerate(polygon) if place != ends[at]]
@@ -142,7 +142,7 @@ def _found_crossing(parts):
     """Tells the first two edges of what are polygons that have more in common than they may."""
     edges = []
     for number, polygon in enumerate(parts):
-        edges.extend(_edges_of(number, polygon))
+        edges.extend(edges_of(number, polygon))
     for at, one in enumerate(edges):
         for other in edges[at + 1:]:
             if _have_too_much(one, other):

@@ -3,10 +3,14 @@
 from fractions import Fraction
 
 from hintedpoints import errors
+from hintedpoints.desk import Desk
 from hintedpoints.fonts import Font, Letter, Made
+from hintedpoints.look import Look
 from hintedpoints.machine import Machine
 from hintedpoints.outlines import Outline
 from hintedpoints.programs import Program
+from hintedpoints.sessions import Session
+from hintedpoints.sizes import Size
 from hintedpoints.zones import Setting, Zone
 
 # Sixty figures, the most that a whole number that is handed in may have.
@@ -31,8 +35,10 @@ def refusals():
 def objects():
     """Objects of this package's classes, refusals left out."""
     outline = Outline([[(0, 0, True), (1, 0, True), (0, 1, True)]])
+    font = Font(64, letters=[("a", Letter(outline))])
     return [outline, Program([]), Program([("drop",)]), Letter(outline), Made([("a", 0, 0)]), Font(64), Zone((), ()),
-            Setting(), Machine({}, size=1, worths=(), zone=Zone((), ()))]
+            Setting(), Machine({}, size=1, worths=(), zone=Zone((), ())), Size(font, 1), Size(font, 1).letter("a"),
+            Session(font), Look(Program([])), Desk()]
 
 
 def no_things():

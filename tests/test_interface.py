@@ -31,6 +31,17 @@ DEFS = {
         "shifted": "(zone, setting, point, distance)", "crossing": "(zone, setting, point, *, a, b, c, d)",
         "rested": "(zone, line)",
     },
+    "cells": {
+        "cells": "(parts, *, rule='round', drops=True)",
+        "cell_of": "(parts, column, row, *, rule='round', drops=True)", "in_both": "(spans, others)",
+        "picture": "(spans, *, full='x', bare='.')",
+    },
+    "look": {"gone_by": "(program, truths, *, definitions=None, size=None, stack=24, budget=400)"},
+    "straight": {"straight": "(font, name, *, size)"},
+    "shorten": {
+        "shortenings": "(program)", "shortened_by": "(program, *, rule, path)", "shortened": "(program)",
+    },
+    "fonttext": {"show_font": "(font)", "read_font": "(text)"},
 }
 # Of each class how it is made, and its methods, each of which stands in the class itself.
 CLASSES = {
@@ -67,6 +78,23 @@ CLASSES = {
         "__init__": "(self, definitions, *, size, worths, zone, store=None, stack=24, budget=400)",
         "run": "(self, program)", "store": "(self)", "worths": "(self)", "stack": "(self)", "zone": "(self)",
         "trail": "(self)", "log": "(self)", "at_rest": "(self)"}},
+    "sizes": {
+        "Size": {
+            "__init__": "(self, font, size, *, stack=24, budget=400)", "size": "(self)", "store": "(self)",
+            "worths": "(self)", "made_up": "(self)", "fault": "(self)", "letter": "(self, name)"},
+        "Shape": {
+            "places": "(self)", "ends": "(self)", "truths": "(self)", "touched": "(self)", "__len__": "(self)",
+            "__eq__": "(self, other)"}},
+    "sessions": {"Session": {
+        "__init__": "(self, font, *, keep=3, stack=24, budget=400)", "letter": "(self, name, *, size)",
+        "shapes": "(self, names, *, size)", "kept": "(self)", "forget": "(self, *, size=None)", "log": "(self)",
+        "cleared": "(self)", "at_work": "(self)"}},
+    "look": {"Look": {
+        "__init__": "(self, program, *, definitions=None, size=None, stack=24, budget=400)", "ends": "(self)",
+        "faults": "(self)", "top": "(self)", "idle": "(self)"}},
+    "desk": {"Desk": {
+        "__init__": "(self, *, keep=3, stack=24, budget=400)", "say": "(self, line)", "rows": "(self)",
+        "at_work": "(self)", "__len__": "(self)"}},
 }
 
 
