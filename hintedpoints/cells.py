@@ -13,7 +13,7 @@ MOST_SIGNS = 8000
 
 def _need_rule(rule):
     """Refuses what is no rule of what is within."""
-    if not isinstance(rule, str) or rule not in RULES:
+    if rule not in RULES:
         raise NoCells(rule)
 
 
@@ -65,9 +65,9 @@ def _stretches(crossings, rule):
             state = before + sum(crossings[x])
         else:
             state = (before + len(crossings[x])) % 2
-        if before == 0 and state != 0:
+        if before == 0:
             enter = x
-        elif before != 0 and state == 0:
+        elif state == 0:
             found.append((enter, x))
     return found
 

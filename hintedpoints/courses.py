@@ -113,10 +113,7 @@ class Courses:
         """Tells the most counted when some way comes by a step, from a height and counts, to one that counts."""
         if step.inner is None:
             return _most_of(counts)
-        inner = self._course(step.inner, height).longest
-        if inner < 0:
-            return inner
-        return min(self._budget, _most_of(counts) + inner)
+        return min(self._budget, _most_of(counts) + self._course(step.inner, height).longest)
 
     def _reckoned(self, flow, height):
         """Tells the course of a flow from a height on, which isn't known yet."""

@@ -38,20 +38,15 @@ class Desk:
         self._ahead.append(None if self._bench is None else self._bench.font)
         return self._have(font)
 
-    def _undo(self):
-        """Takes back the last line that changed the font."""
-        if len(self._ahead) == 0:
-            raise Unready()
-        return self._have(self._ahead.pop())
-
     def _answer(self, word, things):
         """Tells the answer to a line of a first word and the things behind it."""
         if word == "font":
             return self._change_to(read_font(things[0]))
         if self._bench is None:
             raise Unready()
+        # A font is here by a line that can be taken back.
         if word == "undo":
-            return self._undo()
+            return self._have(self._ahead.pop())
         if word in CHANGES:
             change = CHANGES[word]
             return self._change_to(change(self._bench.font, *things))

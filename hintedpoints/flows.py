@@ -11,7 +11,7 @@ class Step:
     through all that the flow inner does.
     """
 
-    def __init__(self, begin, end, *, taken=0, given=0, truth=None, number=None, inner=None):
+    def __init__(self, begin, end, *, taken, given, truth, number, inner):
         self.begin = begin
         self.end = end
         self.taken = taken

@@ -127,9 +127,10 @@ def shortenings(program):
 
 def _is_doable(program, rule, path):
     """Tells whether a rule can be done with a program at a path."""
-    if not isinstance(rule, str) or not isinstance(path, tuple):
+    # True and False would be found as 1 and 0.
+    if not isinstance(path, tuple) or not all([is_int(number) for number in path]):
         return False
-    return all([is_int(number) for number in path]) and (rule, path) in shortenings(program)
+    return (rule, path) in shortenings(program)
 
 
 def shortened_by(program, *, rule, path):

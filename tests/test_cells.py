@@ -165,6 +165,9 @@ class Drops(unittest.TestCase):
         self.assertEqual(cells(parts), [(0, 0, 3)])
         self.assertEqual(cell_of(parts, 1, 0), ("in", 70, 97))
         self.assertEqual(cell_of(parts, 2, 0), ("drop", 170, 172))
+        parts = [box(0, 0, 64, 64), box(192, 0, 256, 64), box(258, 0, 280, 64), box(300, 0, 420, 64)]
+        self.assertEqual(cells(parts), [(0, 0, 1), (0, 3, 7)])
+        self.assertEqual(cells(parts, drops=False), [(0, 0, 1), (0, 3, 4), (0, 5, 7)])
 
     def test_letters_side_by_side_have_no_cell_in_common_but_by_drops(self):
         one, other = [box(0, 0, 100, 200)], [box(100, 0, 170, 200)]
@@ -266,7 +269,8 @@ class Cells(unittest.TestCase, Looks):
 
 def no_spans():
     """Things that are no lists of spans."""
-    bad = [None, True, 0, (0, 1), (0, 1, 1), (0, 2, 1), (0, 1, 2, 3), [0, 1, 2], (True, 1, 2), (0, False, 1), (0, 0, True),
+    bad = [None, True, 0, (0, 1), (0, 1, 1), (0, 2, 1), (0, 1, 2, 3), [0, 1, 2], (True, 1, 2), (0, False, 1),
+           (0, 0, True),
            ((1, 2), 0, 1), (0, "0", 1), (0, None, 1), (0, 1, (5, 2)), "abc"]
     return [None, True, False, 0, 1, "", "x", {}, {(0, 0, 1): 1}, (0, 0, 1), [[(0, 0, 1)]]] + objects() + [
         [thing] for thing in bad] + [[(0, 0, 1), thing] for thing in bad] + [
@@ -339,6 +343,9 @@ class Spans(unittest.TestCase, Looks):
 
     def test_eight_thousand_signs(self):
         self.assertEqual(picture([(0, 0, 8000)]), "x" * 8000)
+        self.assertEqual(picture([(9, 70, 8070)]), "x" * 8000)
+        self.refused_at(TooMany, {"many": 8001}, picture, [(9, -70, 7931)])
+        self.assertEqual(len(picture([(50, 900, 901), (129, 999, 1000)])), 8000 + 79)
         self.refused_at(TooMany, {"many": 8001}, picture, [(0, 0, 8001)])
         self.assertEqual(len(picture([(0, 0, 1), (79, 99, 100)])), 8000 + 79)
         self.refused_at(TooMany, {"many": 8100}, picture, [(0, 0, 1), (80, 99, 100)])

@@ -80,7 +80,8 @@ class Lines(unittest.TestCase, Looks):
 
     def test_first_words(self):
         for text in ("", " ", "nothing", "Show", "shows", "sho", "done", "read", "show\n", "\nshow", "show\nshow",
-                     "font\n64", "font font 64\n", "program a drop\ndrop", "names/", "/", ".", "true", "size 1", "what is this?",
+                     "font\n64", "font font 64\n", "program a drop\ndrop", "names/", "/", ".", "true", "size 1",
+                     "what is this?",
                      "x" * 40000):
             self.no_line(text)
 
@@ -91,7 +92,8 @@ class Lines(unittest.TestCase, Looks):
             if name != "program":
                 self.no_line(text + " ")
                 self.no_line(text.replace(" ", "  ") + ("" if things else " "))
-        for text in ("font", "font ", " font font 64", "program", "program ", "program a ", "program  a drop", "program  a",
+        for text in ("font", "font ", " font font 64", "program", "program ", "program a ", "program  a drop",
+                     "program  a",
                      " program a drop", "bare ", "bare  a"):
             self.no_line(text)
 
@@ -119,10 +121,12 @@ class Lines(unittest.TestCase, Looks):
 
     def test_rows_may_begin_and_end_with_blanks(self):
         desk = sample()
-        for text, at in (("font  font 64", 0), ("font font 64 ", 0), ("font  ", 0), ("font  / font 64", 0), ("font font 64 / ", 1),
+        for text, at in (("font  font 64", 0), ("font font 64 ", 0), ("font  ", 0), ("font  / font 64", 0),
+                         ("font font 64 / ", 1),
                          ("program a  drop", 0), ("program a drop ", 0), ("program a  ", 0), ("program a  / drop", 0),
                          ("program a drop / ", 1), ("program a drop /", 0), ("program a / drop", 0),
-                         ("program a drop / / drop", 1), ("program a drop /  / drop", 1), ("program a drop  / drop", 0)):
+                         ("program a drop / / drop", 1), ("program a drop /  / drop", 1),
+                         ("program a drop  / drop", 0)):
             self.refused_at(NoRow, {"at": at}, desk.say, text)
             self.assertEqual(desk.rows()[-1], (text.split(" ")[0], "refused"))
         self.assertEqual(len(desk), 1)
@@ -282,7 +286,8 @@ class Asks(unittest.TestCase, Looks):
 
     def test_touches(self):
         desk = sample()
-        desk.say("program a push 0 / push 1 / shift / way 0 1 / push 1 / push 1 / shift / way 3 4 / push 2 / push 0 / shift")
+        desk.say("program a push 0 / push 1 / shift / way 0 1 / push 1 / push 1 / shift / way 3 4 / push 2 / push 0 / "
+                 "shift")
         self.assertEqual(desk.say("touched a 1"), "east north both no")
 
     def test_drops_and_turns(self):
@@ -290,6 +295,12 @@ class Asks(unittest.TestCase, Looks):
         self.assertEqual((desk.say("cells a 1"), desk.say("picture a 1")), ("0 0 1", "x"))
         self.assertEqual((desk.say("turns a 1"), desk.say("turns b 1")), ("-1", "0"))
         self.assertEqual((desk.say("cells b 1"), desk.say("picture b 1")), ("none", "none"))
+
+    def test_three_sizes_are_kept_where_nothing_is_told(self):
+        desk = sample()
+        for size in range(1, 7):
+            desk.say(f"letter a {size}")
+        self.assertEqual(desk.say("kept"), "4 5 6")
 
     def test_a_font_without_letters(self):
         desk = sample(EMPTY)
@@ -303,7 +314,8 @@ class Asks(unittest.TestCase, Looks):
         self.assertEqual(desk.say("fault 3"), "3 lack")
         self.assertEqual((desk.say("store 3"), desk.say("worths 3")), ("0 0 0 0 0 0 0 0", "21"))
         self.assertEqual(desk.say("kept"), "none")
-        for line in ("letter a 3", "touched c 3", "cells a 3", "picture a 3", "turns a 3", "crossing a 3", "straight a 3"):
+        for line in ("letter a 3", "touched c 3", "cells a 3", "picture a 3", "turns a 3", "crossing a 3",
+                     "straight a 3"):
             self.refused_at(Fault, {"done": 3, "why": "lack"}, desk.say, line)
         self.assertEqual(desk.say("kept"), "3")
         self.assertEqual(desk.say("log"), "; ".join(f"{word} {name} 3" for name in "acaaaa" for word in ("in", "out")))
@@ -340,7 +352,8 @@ class Asks(unittest.TestCase, Looks):
         for line in lines:
             desk.say(line)
         self.refused_at(NoSuch, {"found": "z"}, desk.say, "letter z 1")
-        self.assertEqual(desk.say("log"), "in c 1; in a 1; out a 1; in b 1; out b 1; out c 1; kept a 1; in b 2; out b 2; "
+        self.assertEqual(desk.say("log"),
+                         "in c 1; in a 1; out a 1; in b 1; out b 1; out c 1; kept a 1; in b 2; out b 2; "
                                           "kept b 2; in a 3; out a 3; kept a 3; in a 1; out a 1")
         self.assertEqual(desk.say("kept"), "3 1")
         before = desk.say("log")
@@ -353,8 +366,9 @@ class Rows(unittest.TestCase, Looks):
     def test_rows(self):
         desk = Desk()
         self.assertEqual((desk.rows(), desk.at_work(), len(desk)), ([], 0, 0))
-        for line, end in (("show", "refused"), ("font font 64", "done"), ("what", None), ("names", "done"), ("font ", None),
-                          ("bare a", "refused"), ("font !", "refused"), ("undo", "done"), (None, None), ("undo", "refused")):
+        for line, end in (("show", "refused"), ("font font 64", "done"), ("what", None), ("names", "done"),
+                          ("font ", None), ("bare a", "refused"), ("font !", "refused"), ("undo", "done"), (None, None),
+                          ("undo", "refused")):
             many = len(desk.rows())
             try:
                 self.assertIs(type(desk.say(line)), str)

@@ -55,7 +55,8 @@ def whole():
     both = Outline([ROUND, [(-1, -2, True), (3, 4, True), (5, -99999, False), (99999, 0, True)]])
     program = Program([("size",), ("if", [("repeat", 2, [("rest", "east")])], [])])
     return Font(1000, worths=[80, -5, 0], first=Program([]),
-                definitions=[("x", Program([("push", (1, 2)), ("drop",)])), ("yy", Program([("call", "x")], names=["x"]))],
+                definitions=[("x", Program([("push", (1, 2)), ("drop",)])),
+                             ("yy", Program([("call", "x")], names=["x"]))],
                 letters=[("a", Letter(both, program=program)), ("b", Letter(first)),
                          ("c", Made([("a", 10, -20), ("b", 0, 0)], program=Program([("call", "yy")], names=["yy"]))),
                          ("d", Made([("c", 1, 2)]))])
@@ -110,7 +111,8 @@ class Read(unittest.TestCase, Looks):
                 self.refused(NoText, thing, read_font, thing)
 
     def test_first_rows(self):
-        for bad in ("", "font", "font ", " font 64", "font 64 ", "font  64", "font 64 64", "font a", "Font 64", "font 064",
+        for bad in ("", "font", "font ", " font 64", "font 64 ", "font  64", "font 64 64", "font a", "Font 64",
+                    "font 064",
                     "font 1/2", "font 65/2", "font +64", "font 6 4", "64", "worths 1", "letter a", ".", "fonts 64",
                     "font 1" + "0" * 60):
             self.row(0, bad)
@@ -149,12 +151,14 @@ class Read(unittest.TestCase, Looks):
             self.row(2, "font 64", "letter a", bad)
 
     def test_parts(self):
-        for bad in ("part", "part a", "part a 0", "part a 0 0 0", "part A 0 0", "part 0 0 0", "part a  0 0", "part a 0 0 ",
+        for bad in ("part", "part a", "part a 0", "part a 0 0 0", "part A 0 0", "part 0 0 0", "part a  0 0",
+                    "part a 0 0 ",
                     "part a 0 1/2", "part a x 0", "part abcdefghi 0 0", "part  a 0 0", "part a 0, 0"):
             self.row(2, "font 64", "made b", bad)
 
     def test_whole_numbers_are_read_as_numbers_are(self):
-        font = read_font("font 128/2\nworths -0 6/3 -4/2\nletter a\nround -0 0, 128/2 0/5 off, 64/1 64\nmade b\npart a 4/2 -0")
+        font = read_font("font 128/2\nworths -0 6/3 -4/2\nletter a\nround -0 0, 128/2 0/5 off, 64/1 64\nmade b\n"
+                         "part a 4/2 -0")
         letters = [("a", Letter(Outline([ROUND]))), ("b", Made([("a", 2, 0)]))]
         self.assertEqual(font, Font(64, worths=[0, 2, -2], letters=letters))
         self.row(1, "font 64", "worths 00")
@@ -189,7 +193,8 @@ class Read(unittest.TestCase, Looks):
     def test_programs_in_their_order(self):
         deep = ["repeat 1"] * 6 + ["end"] * 6
         letter = ["letter a", "round 0 0", "program", *deep, "."]
-        self.refused_at(Deep, {"at": 6}, read_font, text("define x", *["drop"], *deep, ".", "first", "call q", ".", *letter))
+        self.refused_at(Deep, {"at": 6}, read_font, text("define x", *["drop"], *deep, ".", "first", "call q", ".",
+                                                         *letter))
         self.refused_at(NoDefinition, {"found": "q"}, read_font, text("define x", ".", "first", "call q", ".", *letter))
         self.refused_at(NoOutline, {"found": [(0, 0, True)]}, read_font, text("first", ".", *letter))
         self.refused_at(Deep, {"at": 5}, read_font, text("letter a", ONE_ROUND, "program", *deep, ".", "letter b"))
@@ -203,7 +208,8 @@ class Read(unittest.TestCase, Looks):
     def test_definitions_call_those_ahead(self):
         self.refused_at(NoDefinition, {"found": "x"}, read_font, text("define x", "call x", "."))
         self.refused_at(NoDefinition, {"found": "yy"}, read_font, text("define x", "call yy", ".", "define yy", "."))
-        self.refused_at(NoDefinition, {"found": "z"}, read_font, text("define x", ".", "first", "call x", "call z", "."))
+        self.refused_at(NoDefinition, {"found": "z"}, read_font,
+                        text("define x", ".", "first", "call x", "call z", "."))
         self.refused_at(NoDefinition, {"found": "z"}, read_font, text("letter a", ONE_ROUND, "program", "call z", "."))
         self.refused_at(NoDefinition, {"found": "z"}, read_font, text("made a", "part b 0 0", "program", "call z", "."))
         font = read_font(text("define x", ".", "define yy", "call x", ".", "first", "call yy", "."))
@@ -214,12 +220,14 @@ class Read(unittest.TestCase, Looks):
         letter = ["letter a", ONE_ROUND]
         for em in (15, 4097, 0, -64, MOST):
             self.refused_at(NoNumber, {"found": em}, read_font, f"font {em}\nworths 999999")
-        self.refused_at(NoWorths, {"found": list(range(13))}, read_font, text("worths " + " ".join(map(str, range(13)))))
+        self.refused_at(NoWorths, {"found": list(range(13))}, read_font,
+                        text("worths " + " ".join(map(str, range(13)))))
         self.refused_at(NoNumber, {"found": 100000}, read_font, text("worths 1 100000 -100000"))
         self.refused_at(NoName, {"found": "x"}, read_font, text("define x", ".", "define x", ".", *letter, *letter))
         self.refused_at(NoName, {"found": "a"}, read_font, text(*letter, *letter))
         self.refused_at(NoSuch, {"found": "b"}, read_font, text("made a", "part b 0 0", "letter b", ONE_ROUND))
-        self.refused_at(TooMany, {"many": 5}, read_font, text("letter a", *[ONE_ROUND] * 4, "letter b", ONE_ROUND, "made c",
+        self.refused_at(TooMany, {"many": 5}, read_font, text("letter a", *[ONE_ROUND] * 4, "letter b", ONE_ROUND,
+                                                              "made c",
                                                              "part a 0 0", "part b 0 0"))
         self.refused_at(NoPoint, {"found": (0, 100000, True)}, read_font, text("letter a", "round 0 0, 0 100000, 1 1"))
         self.refused_at(NoParts, {"found": ("a", 100000, 0)}, read_font, text(*letter, "made b", "part a 100000 0"))

@@ -143,7 +143,8 @@ class Maker:
             elif kind < 0.62:
                 found.append(("if", self.block(deep - 1, names), self.block(deep - 1, names)))
             elif kind < 0.72:
-                found.append(("when", self.chance.randint(1, 4), self.chance.randint(1, 4), self.block(deep - 1, names)))
+                low, high = self.chance.randint(1, 4), self.chance.randint(1, 4)
+                found.append(("when", low, high, self.block(deep - 1, names)))
             elif kind < 0.85:
                 found.append(("repeat", self.chance.choice([0, 1, 2, 3, 5]), self.block(deep - 1, names)))
             elif names:
@@ -213,7 +214,8 @@ class GoneBy(unittest.TestCase):
         self.assertEqual(gone_by(program(UP, ("when", 1, 2, [])), [], budget=1), ("budget", 1, 1, 1))
 
     def test_names_of_arguments(self):
-        told = gone_by(stack=3, truths=[True], budget=9, size=None, definitions={}, program=program(("when", 1, 1, [UP])))
+        told = gone_by(stack=3, truths=[True], budget=9, size=None, definitions={},
+                       program=program(("when", 1, 1, [UP])))
         self.assertEqual(told, ("end", 1, 2, 1))
         self.assertIs(type(told), tuple)
 
@@ -263,7 +265,8 @@ class Refused(unittest.TestCase, Looks):
         calls_b = {"a": program(("call", "b")), "b": program()}
         for act, more in self.looks():
             self.refused_at(NoDefinition, {"found": "b"}, act, program(), *more, definitions=calls_b, size=0)
-            self.refused_at(NoDefinition, {"found": "a"}, act, program(), *more, definitions={"a": program(("call", "a"))})
+            self.refused_at(NoDefinition, {"found": "a"}, act, program(), *more,
+                            definitions={"a": program(("call", "a"))})
             self.refused_at(NoDefinition, {"found": "c"}, act, program(UP, ("call", "c"), ("call", "d")), *more,
                             definitions={"a": program()}, size=0, stack=0)
             self.refused_at(NoDefinition, {"found": "c"}, act, program(("call", "c")), *more, size=0)
@@ -313,6 +316,27 @@ class Looked(unittest.TestCase, Looks):
         self.assertEqual(Look(words, stack=5, budget=10).faults(), [("budget", 10, [])])
         self.assertEqual(Look(words, stack=4, budget=10).faults(), [("budget", 10, [])])
         self.assertEqual(Look(words, stack=4, budget=10).ends(), [])
+
+    def test_empty_blocks_at_the_end_of_the_budget(self):
+        told = {"a": program()}
+        self.assertEqual(Look(program(("repeat", 1, [])), budget=2).faults(), [])
+        self.assertEqual(Look(program(("repeat", 2, [])), budget=2).faults(), [("budget", 2, [])])
+        self.assertEqual(Look(program(("repeat", 0, [])), budget=1).faults(), [])
+        self.assertEqual(Look(program(("call", "a")), definitions=told, budget=1).faults(), [])
+        self.assertEqual(Look(program(("call", "a"), ("call", "a")), definitions=told, budget=1).faults(),
+                         [("budget", 1, [])])
+
+    def test_a_way_doesnt_go_by_a_word_that_fails(self):
+        words = program(UP, UP, ("if", [("swap",)], [STAY]))
+        self.assertEqual(Look(words).ends(), [(1, 4, [False], 4, [False])])
+        self.assertEqual(Look(words).faults(), [("lack", 3, [True])])
+
+    def test_top_where_the_budget_ends(self):
+        self.assertEqual(Look(program(("when", 1, 1, [UP]), STAY), budget=2).top(), (1, [True]))
+        self.assertEqual(Look(program(("when", 1, 1, [("repeat", 1, [UP])]), STAY), budget=4).top(), (1, [True]))
+        told = {"a": program(UP)}
+        self.assertEqual(Look(program(("when", 1, 1, [("call", "a")]), STAY), definitions=told, budget=3).top(),
+                         (1, [True]))
 
     def test_top(self):
         self.assertEqual(Look(program()).top(), (0, []))
@@ -478,7 +502,7 @@ class Random(unittest.TestCase, Looks):
             self.assertGreater(seen.count(end), 20)
 
     def test_runs_go_by_ways(self):
-        """Each run that doesn't fail otherwise goes by a way, and none of the three is met where there are no faults."""
+        """Each run that doesn't fail otherwise goes by a way; none of the three is met where there are no faults."""
         seen = {}
         for seed in range(300):
             maker = Maker(seed)

@@ -46,7 +46,8 @@ class Sessions(unittest.TestCase, Looks):
         letters = [("a", Letter(Outline([ROUND]), program=program))]
         for kind in ({"letters": letters}, {"first": program, "letters": letters}):
             self.assertEqual(len(Session(Font(64, **kind), stack=3, budget=3).letter("a", size=1)), 3)
-            for limits, why in (({"stack": 2}, "full"), ({"budget": 2}, "budget"), ({"budget": 2, "stack": 2}, "budget")):
+            for limits, why in (({"stack": 2}, "full"), ({"budget": 2}, "budget"),
+                                ({"budget": 2, "stack": 2}, "budget")):
                 self.refused_at(Fault, {"done": 2, "why": why}, Session(Font(64, **kind), **limits).letter, "a", size=1)
         many = Program([("push", 1)] * 25)
         self.refused_at(Fault, {"done": 24, "why": "full"}, Session(Font(64, first=many, letters=letters)).letter, "a",

@@ -105,7 +105,8 @@ class Maker:
 
     def plain(self):
         name = self.chance.choice(["push"] * 8 + [
-            "drop", "drop", "swap", "negate", "bare", "floor", "ceil", "not", "plus", "minus", "times", "over", "lesser",
+            "drop", "drop", "swap", "negate", "bare", "floor", "ceil", "not", "plus", "minus", "times", "over",
+            "lesser",
             "greater", "same", "both", "either", "size", "height", "copy", "round", "way", "measure", "move", "keep",
             "settle", "rest"])
         if name == "push":
@@ -121,7 +122,8 @@ class Maker:
         for _ in range(self.chance.randint(0, most)):
             kind = self.chance.random()
             if kind < 0.1:
-                found += [("push", self.chance.choice([0, 1, 1])), (self.chance.choice(["plus", "minus", "times", "over"]),)]
+                name = self.chance.choice(["plus", "minus", "times", "over"])
+                found += [("push", self.chance.choice([0, 1, 1])), (name,)]
             elif kind < 0.7 or deep == 0:
                 found.append(self.plain())
                 if self.chance.random() < 0.3:
@@ -166,7 +168,8 @@ class Rules(unittest.TestCase, Looks):
         self.none(("swap",), ("negate",), ("swap",), ("bare",), ("floor",), ("ceil",), ("bare",))
 
     def test_folded_of_two(self):
-        for one, other in ((3, 5), (5, 3), (3, 3), (0, 7), (7, 0), (0, 0), ((1, 2), (-1, 2)), ((2, 3), (3, 4)), (-64, 1)):
+        for one, other in ((3, 5), (5, 3), (3, 3), (0, 7), (7, 0), (0, 0), ((1, 2), (-1, 2)), ((2, 3), (3, 4)),
+                           (-64, 1)):
             for name in ("plus", "minus", "times", "lesser", "greater", "same", "both", "either"):
                 words = [("push", one), ("push", other), (name,)]
                 told, _ = folded(words)
@@ -195,7 +198,8 @@ class Rules(unittest.TestCase, Looks):
         self.none(("push", -MOST), ("push", 2), ("minus",))
         self.only("folded", [("push", 10 ** 30 - 1), ("push", 10 ** 30 + 1), ("times",)], [("push", MOST)])
         self.none(("push", 10 ** 30), ("push", 10 ** 30), ("times",))
-        self.only("folded", [("push", (1, 10 ** 30 - 1)), ("push", (1, 10 ** 30 + 1)), ("times",)], [("push", (1, MOST))])
+        words = [("push", (1, 10 ** 30 - 1)), ("push", (1, 10 ** 30 + 1)), ("times",)]
+        self.only("folded", words, [("push", (1, MOST))])
         self.none(("push", (1, 10 ** 30)), ("push", (1, 10 ** 30)), ("times",))
         self.none(("push", LONG_PART), ("push", LONG_PART), ("times",))
         self.only("folded", [("push", LONG_PART), ("push", LONG_PART), ("same",)], [("push", 1)])

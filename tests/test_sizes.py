@@ -74,7 +74,8 @@ class Sizes(unittest.TestCase, Looks):
         self.assertEqual(Size(font, 1).store(), [0, 0, 0, 9, 0, 0, 0, 0])
 
     def test_where_it_is_refused_all_is_as_it_began(self):
-        words = [("push", 5), ("push", 1), ("keep",), ("push", 5), ("push", 0), ("setworth",), ("push", -1), ("push", 0),
+        words = [("push", 5), ("push", 1), ("keep",), ("push", 5), ("push", 0), ("setworth",), ("push", -1),
+                 ("push", 0),
                  ("put",)]
         for end, fault in (([("drop",)], (9, "lack")), ([("push", 1), ("push", 0), ("over",)], (11, "nought")),
                            ([("push", 0), ("settle",)], (10, "point"))):
@@ -231,8 +232,9 @@ class Shapes(unittest.TestCase, Looks):
     def test_refused_with_the_fault_of_the_first_part(self):
         def failing(many):
             return Program([("push", 1), ("drop",)] * many + [("drop",)])
-        rows = [("a", Letter(Outline([ROUND]), program=failing(1))), ("b", Letter(Outline([ROUND]), program=failing(2))),
-                ("c", Letter(Outline([ROUND]))), ("d", Made([("c", 0, 0), ("b", 0, 0), ("a", 0, 0)], program=failing(3))),
+        one = Outline([ROUND])
+        rows = [("a", Letter(one, program=failing(1))), ("b", Letter(one, program=failing(2))), ("c", Letter(one)),
+                ("d", Made([("c", 0, 0), ("b", 0, 0), ("a", 0, 0)], program=failing(3))),
                 ("e", Made([("c", 0, 0)], program=failing(4))), ("f", Made([("e", 0, 0), ("a", 0, 0)])),
                 ("g", Made([("b", 0, 0)], program=failing(5))), ("h", Made([("c", 0, 0), ("g", 0, 0), ("a", 0, 0)]))]
         size = Size(font_with(letters=rows), 1)

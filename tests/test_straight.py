@@ -35,7 +35,8 @@ class Straight(unittest.TestCase, Looks):
         program = Program([("size",), ("push", 12), ("same",), ("if", [("call", "x")], [("push", 1), ("settle",)]),
                            ("repeat", 2, [("when", 1, 12, [("rest", "east")])])], names=["x"])
         self.assertEqual(straight(font(program), "b", size=12).words(), [
-            ("size",), ("push", 12), ("same",), ("drop",), ("push", 2), ("settle",), ("rest", "east"), ("rest", "east")])
+            ("size",), ("push", 12), ("same",), ("drop",), ("push", 2), ("settle",), ("rest", "east"),
+            ("rest", "east")])
         told = straight(size=13, font=font(program), name="b")
         self.assertIsInstance(told, Program)
         self.assertEqual(told.words(), [("size",), ("push", 12), ("same",), ("drop",), ("push", 1), ("settle",)])
@@ -73,7 +74,8 @@ class Straight(unittest.TestCase, Looks):
         self.refused_at(Fault, {"done": 1, "why": "lack"}, straight, font(None, BAD), "a", size=1)
         self.refused_at(Fault, {"done": 1, "why": "lack"}, straight, font(drop, BAD), "b", size=1)
         self.refused_at(Fault, {"done": 0, "why": "lack"}, straight, font(drop), "b", size=1)
-        rows = [("a", Letter(OUTLINE, program=BAD)), ("b", Made([("a", 0, 0)])), ("c", Made([("b", 0, 0)], program=drop))]
+        rows = [("a", Letter(OUTLINE, program=BAD)), ("b", Made([("a", 0, 0)])),
+                ("c", Made([("b", 0, 0)], program=drop))]
         for name in "abc":
             self.refused_at(Fault, {"done": 1, "why": "lack"}, straight, Font(64, letters=rows), name, size=1)
 
