@@ -85,11 +85,11 @@ def _filled(enter, leave, drops):
 def _spans_of(row, stretches, drops):
     """Tells the spans of a row, no two of which touch."""
     found = []
-    # Stretches come from west to east, and so do the first columns that they fill.
+    # Stretches come from west to east, and so do the columns that they fill.
     for enter, leave in stretches:
         begin, end = _filled(enter, leave, drops)
         if len(found) > 0 and begin <= found[-1][2]:
-            found[-1] = (row, found[-1][1], max(end, found[-1][2]))
+            found[-1] = (row, found[-1][1], end)
         elif begin < end:
             found.append((row, begin, end))
     return found

@@ -1,57 +1,18 @@
 """All ways through flows: the heights and counts that they come to, and ways that come to them.
 
-Counts are kept as bits: a whole number has the bit of a count where some way has counted so many words. What a flow
-does from a height on is reckoned once, as if nothing were counted ahead of it: so rounds within rounds are soon told.
+What a flow does from a height on is reckoned once, as if nothing were counted ahead of it: so rounds within rounds
+are soon told.
 """
 
+from hintedpoints.counts import Counting, has_count, least_of, listed, most_of, only
 from hintedpoints.flows import fails_by
-
-
-def _least_of(counts):
-    """Tells the least of some counts."""
-    return (counts & -counts).bit_length() - 1
-
-
-def _most_of(counts):
-    """Tells the most of some counts."""
-    return counts.bit_length() - 1
-
-
-def _has(counts, count):
-    """Tells whether a count is among some."""
-    return count >= 0 and (counts >> count) & 1 == 1
-
-
-def _listed(counts):
-    """Tells counts as a list, rising."""
-    found = []
-    left = counts
-    while left != 0:
-        found.append(_least_of(left))
-        left = left & (left - 1)
-    return found
-
-
-def _how_many(counts):
-    """Tells how many counts there are."""
-    return f"{counts:b}".count("1")
-
-
-def _sums(one, other):
-    """Tells the counts that are one of some counts and one of others together."""
-    if _how_many(other) < _how_many(one):
-        return _sums(other, one)
-    found = 0
-    for count in _listed(one):
-        found = found | (other << count)
-    return found
 
 
 class Course:
     """What comes of a flow that is begun at a height, as if nothing were counted ahead of it.
 
-    States are, for each node, a dict from the heights that ways have there to their counts; longest is the most
-    counted when some way comes to a step that counts, -1 where none does.
+    States are, for each node, a dict from the heights that ways have there to the sets of their counts; longest is
+    the most counted when some way comes to a step that counts, -1 where none does.
     """
 
     def __init__(self, states, longest):
@@ -71,9 +32,8 @@ class Courses:
         self._main = flows.main
         self._most = most
         self._budget = budget
-        self._within_budget = (1 << (budget + 1)) - 1
+        self._counting = Counting(budget)
         self._known = {}
-        self._known_sums = {}
         # For each flow and height from which some way goes it, the fewest counted ahead of it and the spot there.
         self._begun = {(self._main, 0): (0, None)}
         self._faults = {}
@@ -92,33 +52,25 @@ class Courses:
         """Tells the counts, by heights, at the end of a flow that is begun at a height."""
         return self._course(flow, height).states[flow.last]
 
-    def _sums_within(self, one, other):
-        """Tells those sums of counts that the budget lets by."""
-        # Rounds within rounds ask for the same sums over and over.
-        key = (one, other)
-        if key not in self._known_sums:
-            self._known_sums[key] = _sums(one, other) & self._within_budget
-        return self._known_sums[key]
-
     def _behind(self, step, height, counts):
         """Tells the counts, by heights, that come of a height and counts by a step."""
         if step.inner is not None:
             found = self._end_of(step.inner, height)
-            return {high: self._sums_within(counts, found[high]) for high in found}
+            return {high: self._counting.sums(counts, found[high]) for high in found}
         if fails_by(step, height, self._most) is not None:
             return {}
-        return {height - step.taken + step.given: (counts << 1) & self._within_budget}
+        return {height - step.taken + step.given: self._counting.later(counts)}
 
     def _longest(self, step, height, counts):
         """Tells the most counted when some way comes by a step, from a height and counts, to one that counts."""
         if step.inner is None:
-            return _most_of(counts)
-        return min(self._budget, _most_of(counts) + self._course(step.inner, height).longest)
+            return most_of(counts)
+        return min(self._budget, most_of(counts) + self._course(step.inner, height).longest)
 
     def _reckoned(self, flow, height):
         """Tells the course of a flow from a height on, which isn't known yet."""
         states = [{} for _ in flow.out]
-        states[0][height] = 1
+        states[0][height] = only(0)
         longest = -1
         for step in flow.steps:
             there = states[step.end]
@@ -138,7 +90,7 @@ class Courses:
                     self._look_at(flow, height)
         ends = self._end_of(self._main, 0)
         for high in ends:
-            self._note_top((self._main, 0, self._main.last, high, _least_of(ends[high])))
+            self._note_top((self._main, 0, self._main.last, high, least_of(ends[high])))
 
     def _look_at(self, flow, height):
         """Notes what ways can come to in a flow that is begun at a height."""
@@ -146,10 +98,10 @@ class Courses:
         states = self._course(flow, height).states
         for step in flow.steps:
             for high, counts in states[step.begin].items():
-                spot = (flow, height, step.begin, high, _least_of(counts))
-                if ahead + _least_of(counts) <= self._budget:
+                spot = (flow, height, step.begin, high, least_of(counts))
+                if ahead + least_of(counts) <= self._budget:
                     self._note_top(spot)
-                    self._note(step, spot, ahead + _least_of(counts))
+                    self._note(step, spot, ahead + least_of(counts))
 
     def _note_top(self, spot):
         """Notes a spot where the stack is higher than at the one noted so far."""
@@ -176,10 +128,10 @@ class Courses:
         _, _, _, high, count = spot
         if step.inner is None:
             fits = fails_by(step, before, self._most) is None and before - step.taken + step.given == high
-            return count - 1 if fits and _has(counts, count - 1) else None
+            return count - 1 if fits and has_count(counts, count - 1) else None
         found = self._end_of(step.inner, before).get(high, 0)
-        for ahead in _listed(counts):
-            if _has(found, count - ahead):
+        for ahead in listed(counts):
+            if has_count(found, count - ahead):
                 return ahead
         return None
 
@@ -220,8 +172,8 @@ class Courses:
         states = self._course(flow, height).states
         for step in flow.steps:
             for high, counts in states[step.begin].items():
-                for ahead in _listed(counts):
-                    if ahead <= count <= self._longest(step, high, 1 << ahead):
+                for ahead in listed(counts):
+                    if ahead <= count <= self._longest(step, high, only(ahead)):
                         way = self._way_within((flow, height, step.begin, high, ahead))
                         if step.inner is None:
                             return way
@@ -234,7 +186,7 @@ class Courses:
         ends = self._end_of(self._main, 0)
         for height in sorted(ends):
             row = [height]
-            for count in (_least_of(ends[height]), _most_of(ends[height])):
+            for count in (least_of(ends[height]), most_of(ends[height])):
                 row.extend([count, self._way_within((self._main, 0, self._main.last, height, count))])
             found.append(tuple(row))
         return found
