@@ -67,4 +67,4 @@ class Counting:
         ways = self._spread_of(one) * self._spread_of(other)
         # With 2047 more the highest bit of three digits, that of 2048, is 1 where there is any way.
         found = ((ways + 2047 * self._ones) >> 11) & self._ones
-        return int(f"{found:x}"[::-DIGITS][::-1], 2) & self._all
+        return int(f"{found:x}"[::-DIGITS][::-1], 2)
