@@ -15,8 +15,10 @@ class Course:
     the most counted when some way comes to a step that counts, -1 where none does.
     """
 
-    def __init__(self, states, longest):
+    def __init__(self, states, last, longest):
         self.states = states
+        # The heights at the last node, with the least of their counts and all of them.
+        self.at_end = [(least_of(counts), height, counts) for height, counts in states[last].items()]
         self.longest = longest
 
 
@@ -55,11 +57,13 @@ class Courses:
     def _behind(self, step, height, counts):
         """Tells the counts, by heights, that come of a height and counts by a step."""
         if step.inner is not None:
-            found = self._end_of(step.inner, height)
-            return {high: self._counting.sums(counts, found[high]) for high in found}
+            room = self._budget - least_of(counts)
+            at_end = self._course(step.inner, height).at_end
+            return {high: self._counting.sums(counts, ends) for least, high, ends in at_end if least <= room}
         if fails_by(step, height, self._most) is not None:
             return {}
-        return {height - step.taken + step.given: self._counting.later(counts)}
+        found = self._counting.later(counts)
+        return {height - step.taken + step.given: found} if found != 0 else {}
 
     def _longest(self, step, height, counts):
         """Tells the most counted when some way comes by a step, from a height and counts, to one that counts."""
@@ -78,9 +82,8 @@ class Courses:
                 longest = max(longest, self._longest(step, high, counts))
                 found = self._behind(step, high, counts)
                 for each in found:
-                    if found[each] != 0:
-                        there[each] = there.get(each, 0) | found[each]
-        return Course(states, longest)
+                    there[each] = there.get(each, 0) | found[each]
+        return Course(states, flow.last, longest)
 
     def _look_through(self):
         """Notes what ways can come to, flow by flow, each behind those that lead through it."""

@@ -152,6 +152,21 @@ class Maker:
         return found
 
 
+    def level(self, deep, names, many):
+        """Words of which most ways end about as high as they began."""
+        found = []
+        for _ in range(many):
+            kind = self.chance.randint(0, 4 if deep else 1)
+            inner = self.level(deep - 1, names, self.chance.randint(0, 2)) if deep else []
+            found += {
+                0: [STAY], 1: [("when", 1, 2, [self.chance.choice([UP, DOWN])])], 2: [UP, ("if", inner, [STAY, STAY])],
+                3: [("when", 1, 2, inner)], 4: [("repeat", self.chance.randint(1, 3), inner)],
+            }[kind]
+            if names and self.chance.random() < 0.2:
+                found.append(("call", self.chance.choice(names)))
+        return found
+
+
 def program(*words):
     """A program of these words."""
     return Program(words, names=CALLED)
@@ -403,6 +418,53 @@ class Looked(unittest.TestCase, Looks):
         return max(6 + one + 3 * three for one in range(4) for three in range(4) if 6 + one + 3 * three <= budget)
 
 
+class Unrolled:
+    """All ways at once, word by word, round by round: the heights and counts that they can have."""
+
+    def __init__(self, definitions, most, budget):
+        self.definitions, self.most, self.budget = definitions, most, budget
+        self.faults, self.top = {}, 0
+
+    def counted(self, states, takes=0, puts=0):
+        found = set()
+        for height, counted in states:
+            why = None
+            if counted == self.budget:
+                why = "budget"
+            elif height < takes:
+                why = "lack"
+            elif height - takes + puts > self.most:
+                why = "full"
+            if why:
+                self.faults[why] = min(counted, self.faults.get(why, 999))
+            else:
+                found.add((height - takes + puts, counted + 1))
+        self.top = max([self.top] + [height for height, _ in found])
+        return found
+
+    def words(self, states, words):
+        for word in words:
+            states = self.word(states, word)
+        return states
+
+    def word(self, states, word):
+        name = word[0]
+        if name == "if":
+            inside = self.counted(states, 1)
+            return self.words(inside, word[1]) | self.words(inside, word[2])
+        if name == "when":
+            inside = self.counted(states)
+            return self.words(inside, word[3]) | inside
+        if name in ("repeat", "call"):
+            states = self.counted(states)
+            if name == "call":
+                return self.words(states, self.definitions[word[1]])
+            for _ in range(word[1]):
+                states = self.words(self.counted(states), word[2])
+            return states
+        return self.counted(states, *((word[1], word[1] + 1) if name == "pick" else TAKES[name]))
+
+
 class Soon(unittest.TestCase, Looks):
     """Rounds within rounds through all definitions."""
 
@@ -500,6 +562,33 @@ class Random(unittest.TestCase, Looks):
                 seen += set(self.once(seed))
         for end in ("end", "budget", "lack", "full"):
             self.assertGreater(seen.count(end), 20)
+
+    def test_as_all_ways_at_once_tell(self):
+        """Longer programs, whose ways are too many to go through."""
+        seen = {}
+        for seed in range(25):
+            maker = Maker(seed)
+            definitions = {"a": maker.level(1, [], 3)}
+            words = [UP] * maker.chance.choice([0, 9, 20])
+            for _ in range(3):
+                words += [("repeat", maker.chance.choice([5, 20]), maker.level(2, ["a"], 3)), *maker.level(2, ["a"], 2)]
+            limits = {"stack": maker.chance.choice([9, 24, 40]), "budget": maker.chance.choice([150, 400])}
+            wanted = Unrolled(definitions, limits["stack"], limits["budget"])
+            ends = {}
+            for height, counted in wanted.words({(0, 0)}, words):
+                ends.setdefault(height, []).append(counted)
+            programs = {"a": program(*definitions["a"])}
+            told = Look(program(*words), definitions=programs, **limits)
+            self.assertEqual([(row[0], row[1], row[3]) for row in told.ends()],
+                             [(height, min(ends[height]), max(ends[height])) for height in sorted(ends)])
+            self.assertEqual({why: least for why, least, _ in told.faults()}, wanted.faults)
+            self.assertEqual(told.top()[0], wanted.top)
+            for height, least, way, most, other in told.ends():
+                for truths, counted in ((way, least), (other, most)):
+                    found = gone_by(program(*words), truths, definitions=programs, **limits)
+                    self.assertEqual(found[:3], ("end", height, counted))
+            seen[len(ends) > 3] = seen.get(len(ends) > 3, 0) + 1
+        self.assertGreater(seen[True], 3, seen)
 
     def test_runs_go_by_ways(self):
         """Each run that doesn't fail otherwise goes by a way; none of the three is met where there are no faults."""
